@@ -1,0 +1,1 @@
+"""Steadycover: covers and trees of gates that do not flicker."""
