@@ -1,15 +1,21 @@
 """Points and cubes: strings with one sign for each input."""
 
-from steadycover.errors import InvalidCube, LimitExceeded
+from steadycover.errors import InvalidCube, InvalidPoint, LimitExceeded
 
 MOST_INPUTS = 4
+SIZES = (1, 2, 3, 4)
 POINT_SIGNS = "01"
 CUBE_SIGNS = "-01"
 
 
+def is_whole(thing):
+    """True if the thing is an integer, which True and False are not."""
+    return isinstance(thing, int) and not isinstance(thing, bool)
+
+
 def is_size(n):
     """True if n can be a number of inputs: an integer from 1 to 4."""
-    return isinstance(n, int) and not isinstance(n, bool) and 1 <= n <= MOST_INPUTS
+    return is_whole(n) and 1 <= n <= MOST_INPUTS
 
 
 def has_only(text, signs):
@@ -25,6 +31,12 @@ def is_point(thing, n):
 def is_cube(thing, n):
     """True if the thing is a cube of n inputs."""
     return isinstance(thing, str) and len(thing) == n and has_only(thing, CUBE_SIGNS)
+
+
+def check_point(point):
+    """Raise InvalidPoint(0) if point is not a point of 1 to 4 inputs."""
+    if not any([is_point(point, n) for n in SIZES]):
+        raise InvalidPoint(0)
 
 
 def check_cube(cube):

@@ -55,10 +55,7 @@ class Table:
 
     def primes(self):
         """The cubes without off points that no other such cube holds, ascending."""
-        return largest([cube for cube in all_cubes(self.n) if not self._has_off(cube)])
-
-    def _has_off(self, cube):
-        return any([self.value(point) == "0" for point in points_of(cube)])
+        return largest([cube for cube in all_cubes(self.n) if least_with(self, cube, "0") is None])
 
     def refines(self, other):
         """True if each point that is on or off in other has the same sign here."""
@@ -68,6 +65,14 @@ class Table:
 
     def __eq__(self, other):
         return isinstance(other, Table) and self.text == other.text
+
+
+def least_with(table, cube, sign):
+    """The least point of the cube that has this sign in the table, or None."""
+    for point in points_of(cube):
+        if table.value(point) == sign:
+            return point
+    return None
 
 
 def _check_points(points, n):

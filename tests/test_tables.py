@@ -7,42 +7,13 @@ from steadycover import tables
 from steadycover.errors import InvalidPoint, InvalidTable
 from steadycover.tables import Table
 from tests.samples import (
-    LONG_STRINGS, STRANGE_STRINGS, contained, cube_strings, no_sizes, no_strings, point_strings,
+    EIGHTS, LENGTHS, LONG_STRINGS, SIXTEENS, STRANGE_STRINGS,
+    all_texts, contained, cube_strings, no_sizes, no_strings, point_strings, shown, size,
 )
-
-LENGTHS = {1: 2, 2: 4, 3: 8, 4: 16}
-EIGHTS = (
-    "00000000", "11111111", "--------", "01010011", "01010100", "11011001", "01101001", "10010110",
-    "0-1-01-1", "1---0---", "-0-1-0-1", "00011110", "-------0", "1-------", "01111110", "1000-001",
-)
-SIXTEENS = (
-    "0000000000000000", "1111111111111111", "----------------", "0110100110010110", "1000000000000001",
-    "0-1-0-1-10-01-01", "1101100101010100", "-1111111--11-110", "0000000000000001", "0111111111111110",
-    "1100110000110011", "---0---1---0---1", "0101001101010011", "1-0-01101--01001", "0--0-11--11-0--0",
-)
-
-
-def all_texts(n):
-    return ["".join(signs) for signs in product("-01", repeat=LENGTHS[n])]
 
 
 def chosen_texts():
     return [*all_texts(1), *all_texts(2), *EIGHTS, *SIXTEENS]
-
-
-def size(text):
-    return len(text).bit_length() - 1
-
-
-def shown(text):
-    """The sign of each point, where input 0 is the highest digit of the index."""
-    signs = {}
-    for point in point_strings(size(text)):
-        index = 0
-        for digit in point:
-            index = 2 * index + (1 if digit == "1" else 0)
-        signs[point] = text[index]
-    return signs
 
 
 def with_sign(text, sign):
