@@ -67,6 +67,17 @@ def is_plain(table, change):
     return nature(table, change)[0] not in ("free", "uneven")
 
 
+def is_plain_of(table, thing):
+    """True if the thing is a plain change of the table."""
+    return is_change(thing, table.n) and is_plain(table, thing)
+
+
+def check_plain(table, change):
+    """Raise InvalidChange(-1) if change is not a plain change of the table."""
+    if not is_plain_of(table, change):
+        raise InvalidChange(-1)
+
+
 def is_uneven(table, change, points):
     """True if points shows that the change is uneven."""
     check_change(change, table.n)

@@ -1,6 +1,6 @@
 """Demands, the cubes that are good for them, and how other cubes grow."""
 
-from steadycover.changes import change_cube, is_change, is_plain, on_end
+from steadycover.changes import change_cube, is_plain_of, on_end
 from steadycover.cubes import all_cubes, holds, is_cube, is_point, is_whole, largest, meet, points_of, span
 from steadycover.errors import InvalidChange, InvalidCube
 from steadycover.tables import least_with
@@ -43,7 +43,7 @@ def _check_changes(table, changes):
     if not isinstance(changes, (list, tuple)) or len(changes) > MOST_CHANGES:
         raise InvalidChange(-1)
     for at, change in enumerate(changes):
-        if not is_change(change, table.n) or not is_plain(table, change):
+        if not is_plain_of(table, change):
             raise InvalidChange(at)
 
 

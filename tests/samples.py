@@ -6,6 +6,7 @@ from itertools import permutations, product
 from steadycover import errors
 from steadycover.growth import Demand
 from steadycover.tables import Table
+from steadycover.words import Word
 
 SIZES = (1, 2, 3, 4)
 LENGTHS = {1: 2, 2: 4, 3: 8, 4: 16}
@@ -146,7 +147,9 @@ def no_strings():
         [["0"], ("1", {"-": [1]})], ((("0",),),), {"1": [{"0": ()}]},
         deep_list(40), deep_tuple(40), deep_dict(40),
         iter("01"), (sign for sign in "01"), len, str, object(), ..., NotImplemented, slice(0, 1),
-        Table("01"), Table("0110"), Table, Demand(Table("01")), Demand(Table("0111"), [("00", "01")]), Demand, errors.CoverError(), errors.InvalidCube(0), errors.InvalidWord(),
+        Table("01"), Table("0110"), Table, Demand(Table("01")), Demand(Table("0111"), [("00", "01")]), Demand,
+        Word("0"), Word("1"), Word("01"), Word("101"), Word,
+        errors.CoverError(), errors.InvalidCube(0), errors.InvalidWord(),
     ]
 
 

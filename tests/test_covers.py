@@ -6,63 +6,18 @@ from itertools import permutations, product
 
 from steadycover import covers
 from steadycover.covers import (
-    calm, covered, flicker, is_cover, is_order, longest, longest_order, misfit, orders, played, product_words, why, wires,
+    calm, covered, flicker, is_cover, is_order, longest, longest_order, misfit, orders, played, product_words, why,
+    wires,
 )
 from steadycover.errors import InvalidChange, InvalidCover, InvalidOrder, InvalidPoint, LimitExceeded
 from steadycover.tables import Table
+from tests.definitions import defined_why, defined_wires, too_long, walk
 from tests.samples import (
-    EIGHTS, SIXTEENS, SIZES, all_changes, all_texts, contained, cube_strings, inside, no_changes, no_covers, no_points,
-    no_strings, point_strings, shown, turned_inputs,
+    EIGHTS, SIXTEENS, SIZES, all_changes, all_texts, contained, cube_strings, no_changes, no_covers, no_points,
+    no_strings, point_strings, shown,
 )
 
 OF_CHANGE_AND_COVER = (wires, product_words, longest, longest_order, flicker, calm, why)
-
-
-def defined_wires(change, cover):
-    return [(j, i) for j in range(len(cover)) for i in turned_inputs(change) if cover[j][i] != "-"]
-
-
-def walk(change, cover, order):
-    """The words of the OR and of each product, told wire by wire by the words of [20] and [21]."""
-    start, end = change
-    shows = {wire: start[wire[1]] for wire in defined_wires(change, cover)}
-    ones = [[] for _ in cover]
-    moments = []
-    for turned in [None, *order]:
-        if turned is not None:
-            shows[turned] = end[turned[1]]
-        for j, cube in enumerate(cover):
-            literals = [i for i in range(len(cube)) if cube[i] != "-"]
-            ones[j].append(all(cube[i] == shows.get((j, i), start[i]) for i in literals))
-        moments.append(any(one[-1] for one in ones))
-    return word_of(moments), [word_of(one) for one in ones]
-
-
-def word_of(moments):
-    word = ""
-    for one in moments:
-        sign = "1" if one else "0"
-        if word[-1:] != sign:
-            word += sign
-    return word
-
-
-def too_long(word):
-    return (len(word) > 1 and word[0] == word[-1]) or len(word) > 2
-
-
-def defined_why(change, cover):
-    """What [23] says."""
-    start, end = change
-    a = any(start in contained(cube) for cube in cover)
-    b = any(end in contained(cube) for cube in cover)
-    if a and b:
-        return None if any(set(inside(change)) <= contained(cube) for cube in cover) else ("alone",)
-    for j, cube in enumerate(cover):
-        meets = bool(contained(cube) & set(inside(change)))
-        if meets and not (b and end in contained(cube)) and not (a and start in contained(cube)):
-            return ("meets", j)
-    return None
 
 
 def small_cases():
@@ -284,7 +239,8 @@ class LargeTest(unittest.TestCase):
     def test_no_other_order_has_a_longer_word(self):
         for change, cover in LARGE[::2]:
             due, word = defined_wires(change, cover), longest(change, cover)
-            for order in (due, due[::-1], due[::2] + due[1::2], due[1::3] + due[::3] + due[2::3], sorted(due, key=turn_over)):
+            mixed = [due[::2] + due[1::2], due[1::3] + due[::3] + due[2::3], sorted(due, key=turn_over)]
+            for order in (due, due[::-1], *mixed):
                 other = walk(change, cover, order)[0]
                 self.assertEqual(played(change, cover, order), other, (change, cover))
                 self.assertLessEqual(len(other), len(word), (change, cover))

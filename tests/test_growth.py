@@ -8,137 +8,14 @@ from steadycover.covers import calm, misfit
 from steadycover.errors import InvalidChange, InvalidCube
 from steadycover.growth import Demand, barred, broken, good_primes, grown, is_bar, is_good, is_growth, needed
 from steadycover.tables import Table
-from tests.samples import (
-    EIGHTS, SIXTEENS, SIZES, all_changes, all_texts, contained, cube_strings, deep_tuple, inside, kind_of, no_changes,
-    no_cubes, no_points, no_strings, plain_of, point_strings, shown, size, turning_of,
+from tests.definitions import (
+    BRANCHING, EXAMPLE, ROWS, SMALL, cubes_of, defined_barred, defined_broken, defined_grown, defined_needed,
+    defined_primes, demand_of, growths, is_defined_good, offs_in, unplain_of,
 )
-
-EXAMPLE = ("01010100", (("011", "000"), ("101", "000")))
-# A cube of 000 and 010 breaks several of these, so it grows in several ways.
-BRANCHING = ("1111111111111110", (
-    ("0000", "1111"), ("0001", "1111"), ("0010", "1111"), ("0100", "1111"), ("1111", "1000"), ("0011", "1111"),
-))
-
-
-def chosen_changes(text):
-    """Lists of 0 to 8 plain changes of the table."""
-    plain = plain_of(text)
-    moved = [change for change in plain if kind_of(text, change) in ("rise", "fall")]
-    lists = [(), tuple(plain[:8]), tuple(plain[::-1][:8]), tuple(moved[:8]), tuple(moved[1::3][:8])]
-    lists += [tuple(moved[1::5][:2]), tuple(plain[::4][:3]), tuple(moved[::7][:5][::-1]), tuple(plain[:1]) * 2]
-    return lists
-
-
-def small_rows():
-    """Texts of tables with changes: all tables of one and two inputs with a choice of changes, some of three."""
-    rows = []
-    for text in [*all_texts(1), *all_texts(2)[::2]]:
-        rows += [(text, changes) for changes in chosen_changes(text)]
-        rows += [(text, (change,)) for change in plain_of(text)[::3]]
-    for text in (*EIGHTS, "11110111", "01111111", "10-11101"):
-        rows += [(text, changes) for changes in chosen_changes(text)]
-        moved = [change for change in plain_of(text) if kind_of(text, change) in ("rise", "fall")]
-        rows += [(text, two) for two in list(combinations(moved, 2))[::29]]
-    return list(dict.fromkeys([EXAMPLE, ("01010100", EXAMPLE[1][:1]), ("01010100", EXAMPLE[1][1:]), *rows]))
-
-
-def large_rows():
-    rows = [(text, changes) for text in SIXTEENS[::2] for changes in chosen_changes(text)[1:5]]
-    return list(dict.fromkeys([BRANCHING, *rows]))
-
-
-SMALL = small_rows()
-ROWS = [*SMALL, *large_rows()]
-
-
-def demand_of(row):
-    text, changes = row
-    return Demand(Table(text), changes)
-
-
-def cubes_of(row):
-    """All cubes of a small table, a choice of those of a large one."""
-    n = size(row[0])
-    return cube_strings(n)[::1 if n < 4 else 4]
-
-
-def defined_broken(row, cube):
-    text, changes = row
-    return [
-        at for at, change in enumerate(changes)
-        if kind_of(text, change) in ("rise", "fall")
-        and contained(cube) & set(inside(change))
-        and turning_of(text, change) not in contained(cube)
-    ]
-
-
-def offs_in(text, cube):
-    return [point for point in sorted(contained(cube)) if shown(text)[point] == "0"]
-
-
-def is_defined_good(row, cube):
-    return not defined_broken(row, cube) and not offs_in(row[0], cube)
-
-
-def maximal(cubes):
-    """The cubes that no other of them holds, ascending and each once."""
-    return sorted({c for c in cubes if not any(contained(c) < contained(other) for other in cubes)})
-
-
-def spanned(c, d):
-    return "".join(a if a == b else "-" for a, b in zip(c, d))
-
-
-def behind(row, cube, at):
-    return spanned(cube, turning_of(row[0], row[1][at]))
-
-
-def growths(row, cube):
-    """All growths of the cube, with any broken change at each step."""
-    numbers = defined_broken(row, cube)
-    if not numbers:
-        return [(cube, [])]
-    found = []
-    for at in numbers:
-        then = behind(row, cube, at)
-        found += [(last, [(at, then), *steps]) for last, steps in growths(row, then)]
-    return found
-
-
-def defined_grown(row, cube):
-    steps = []
-    while defined_broken(row, cube):
-        at = defined_broken(row, cube)[0]
-        cube = behind(row, cube, at)
-        steps.append((at, cube))
-    return (cube, steps)
-
-
-def defined_needed(row):
-    """What [48] says."""
-    text, changes = row
-    candidates = [point for point, sign in shown(text).items() if sign == "1"]
-    for change in changes:
-        kind, (start, end) = kind_of(text, change), change
-        if kind == "high":
-            candidates.append([cube for cube in cube_strings(size(text)) if sorted(contained(cube)) == inside(change)][0])
-        if kind in ("rise", "fall"):
-            anchor = end if kind == "rise" else start
-            spans = [spanned(anchor, point) for point in inside(change)]
-            candidates += [c for c in spans if all(shown(text)[point] == "1" for point in contained(c))]
-    return maximal(candidates)
-
-
-def defined_barred(row):
-    for cube in defined_needed(row):
-        last, steps = defined_grown(row, cube)
-        if offs_in(row[0], last):
-            return (cube, steps, offs_in(row[0], last)[0])
-    return None
-
-
-def unplain_of(text):
-    return [change for change in all_changes(size(text)) if kind_of(text, change) in ("free", "uneven")]
+from tests.samples import (
+    EIGHTS, SIXTEENS, SIZES, all_changes, all_texts, contained, cube_strings, deep_tuple, kind_of, no_changes, no_cubes,
+    no_points, no_strings, plain_of, point_strings, size,
+)
 
 
 class DemandTest(unittest.TestCase):
@@ -234,7 +111,8 @@ class DemandTest(unittest.TestCase):
 
 class EqualTest(unittest.TestCase):
     def test_other_demands(self):
-        rows = [*SMALL[:300:11], EXAMPLE, (EXAMPLE[0], EXAMPLE[1][::-1]), (EXAMPLE[0], EXAMPLE[1] * 2), ("01010101", ())]
+        text, falls = EXAMPLE
+        rows = [*SMALL[:300:11], EXAMPLE, (text, falls[::-1]), (text, falls * 2), ("01010101", ())]
         for one, other in product(rows, repeat=2):
             self.assertIs(demand_of(one) == demand_of(other), one == other, (one, other))
             self.assertIs(demand_of(one) != demand_of(other), one != other, (one, other))
@@ -341,8 +219,7 @@ class GoodTest(unittest.TestCase):
 
     def test_good_primes(self):
         for row in ROWS:
-            good = [cube for cube in cube_strings(size(row[0])) if is_defined_good(row, cube)]
-            self.assertEqual(good_primes(demand_of(row)), maximal(good), row)
+            self.assertEqual(good_primes(demand_of(row)), defined_primes(row), row)
         for text in (*EIGHTS, *SIXTEENS):
             self.assertEqual(good_primes(Demand(Table(text))), Table(text).primes(), text)
 
