@@ -4,6 +4,7 @@ from functools import cache
 from itertools import permutations, product
 
 from steadycover import errors
+from steadycover.desk import Desk
 from steadycover.growth import Demand
 from steadycover.tables import Table
 from steadycover.words import Word
@@ -148,7 +149,7 @@ def no_strings():
         deep_list(40), deep_tuple(40), deep_dict(40),
         iter("01"), (sign for sign in "01"), len, str, object(), ..., NotImplemented, slice(0, 1),
         Table("01"), Table("0110"), Table, Demand(Table("01")), Demand(Table("0111"), [("00", "01")]), Demand,
-        Word("0"), Word("1"), Word("01"), Word("101"), Word,
+        Word("0"), Word("1"), Word("01"), Word("101"), Word, Desk(Table("01")), Desk,
         errors.CoverError(), errors.InvalidCube(0), errors.InvalidWord(),
     ]
 

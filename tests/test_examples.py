@@ -91,6 +91,44 @@ raises InvalidOrder(1)
 >>> from steadycover.words import Word
 >>> [str(Word("010") | Word("10")), str(Word("01") & Word("10")), str(~Word("101"))]
 ['1010', '010', '010']
+
+>>> from steadycover.trees import longest_of, settled, word_of_play
+>>> tree = ("or", (("in", 0), ("not", ("in", 0))))
+>>> change = ("0", "1")
+>>> [longest_of(change, tree), settled("-", tree), word_of_play(change, tree, ((0, 1), ((), ())))]
+['101', '-', '1']
+
+>>> from steadycover.trees import word_of_play
+>>> word_of_play(("0", "1"), ("or", (("in", 0), ("not", ("in", 0)))), ((0, 0), ((), ())))
+raises InvalidPlay(())
+
+>>> from steadycover.trees import tree_of
+>>> tree_of(2, ["11", "0-"])
+('or', (('and', (('in', 0), ('in', 1))), ('not', ('in', 0))))
+
+>>> from steadycover.reshape import shared
+>>> from steadycover.trees import longest_of
+>>> part = ("and", (("in", 0), ("not", ("in", 1))))
+>>> tree = ("or", (part, part))
+>>> change = ("00", "11")
+>>> [longest_of(change, tree), longest_of(change, shared(tree, ()))]
+['01010', '010']
+
+>>> from steadycover.reshape import flattened
+>>> flattened(("or", (("or", (("in", 0), ("one",))), ("and", (("in", 1),)))))
+('or', (('in', 0), ('one',), ('in', 1)))
+
+>>> from steadycover.reshape import turned_in
+>>> turned_in(("not", ("and", (("in", 0), ("not", ("one",))))))
+('or', (('not', ('in', 0)), ('one',)))
+
+>>> from steadycover.texts import read_tree
+>>> read_tree("|(&(x0,!x2),1)")
+('or', (('and', (('in', 0), ('not', ('in', 2)))), ('one',)))
+
+>>> from steadycover.texts import read_tree
+>>> read_tree("&(x0")
+raises InvalidText(4)
 '''
 
 
