@@ -54,25 +54,23 @@ def is_cut(text, of):
     return text[0] == of[0] and text[-1] == of[-1] and len(text) <= len(of)
 
 
+def told(v, w, strong, weak):
+    """What [71] says of v | w, where "1" is strong, and of v & w, where "0" is, found among all words."""
+    if strong in (v, w):
+        return strong
+    count = v.count(weak) + w.count(weak) - 1
+    first = strong if strong in (v[0], w[0]) else weak
+    last = strong if strong in (v[-1], w[-1]) else weak
+    lengths = range(1, 2 * count + 2)
+    return [t for t in (text_of(first, k) for k in lengths) if t.count(weak) == count and t[-1] == last][0]
+
+
 def told_or(v, w):
-    """What [71] says of v | w, found among all words by its zeros and its ends."""
-    if "1" in (v, w):
-        return "1"
-    zeros = v.count("0") + w.count("0") - 1
-    first = "1" if v[0] == "1" or w[0] == "1" else "0"
-    last = "1" if v[-1] == "1" or w[-1] == "1" else "0"
-    lengths = range(1, 2 * zeros + 2)
-    return [t for t in (text_of(first, k) for k in lengths) if t.count("0") == zeros and t[-1] == last][0]
+    return told(v, w, "1", "0")
 
 
 def told_and(v, w):
-    if "0" in (v, w):
-        return "0"
-    ones = v.count("1") + w.count("1") - 1
-    first = "0" if v[0] == "0" or w[0] == "0" else "1"
-    last = "0" if v[-1] == "0" or w[-1] == "0" else "1"
-    lengths = range(1, 2 * ones + 2)
-    return [t for t in (text_of(first, k) for k in lengths) if t.count("1") == ones and t[-1] == last][0]
+    return told(v, w, "0", "1")
 
 
 class WordTest(unittest.TestCase):
